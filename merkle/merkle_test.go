@@ -83,9 +83,11 @@ func root(l []api.Hash) api.Hash {
 }
 
 // path does what P7.2 says.
-func path(l []api.Hash, i int) api.Path {
-	p := api.Path{Count: len(l), Index: i}
-	all := levels(l)
+func path(l []api.Hash, i int) api.Path { return pathIn(levels(l), i) }
+
+// pathIn does it in a tree whose levels are known.
+func pathIn(all [][]api.Hash, i int) api.Path {
+	p := api.Path{Count: len(all[0]), Index: i}
 	for _, level := range all[:len(all)-1] {
 		if other := i + 1 - i%2*2; other < len(level) {
 			p.Hashes = append(p.Hashes, level[other])
@@ -392,13 +394,19 @@ func TestPathOfSmallTrees(t *testing.T) {
 	}
 }
 
-// P7.2: the paths of all leaves, or of some if they are many.
+// P7.2 and P7.3: the paths of all leaves, and where they lead.
 func TestPathOfAllLeaves(t *testing.T) {
 	for _, n := range counts {
 		l := row(n)
-		for _, i := range some(n) {
-			if got, e := merkle.Path(l, i); !samePath(got, path(l, i)) || e != api.OK {
-				t.Errorf("Path of leaf %d of %d = %x, %d, want %x", i, n, got, e, path(l, i))
+		all := levels(l)
+		top := all[len(all)-1][0]
+		for i := range n {
+			want := pathIn(all, i)
+			if got, e := merkle.Path(l, i); !samePath(got, want) || e != api.OK {
+				t.Errorf("Path of leaf %d of %d = %x, %d, want %x", i, n, got, e, want)
+			}
+			if got, e := merkle.Follow(want, l[i]); got != top || e != api.OK {
+				t.Errorf("Follow(%d of %d) = %x, %d, want %x", i, n, got, e, top)
 			}
 		}
 	}
