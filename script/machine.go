@@ -22,7 +22,7 @@ const (
 	signCost = 20 // what each signature costs more
 )
 
-// machine carries out operations on a stack; it is nested well, so that its branches always have what an OpElse or OpEnd needs.
+// machine carries out the operations of a script on a stack. Run has made sure that they are nested, so that an OpElse or OpEnd always finds the branch of its OpIf.
 type machine struct {
 	api.Env
 	stack    [][]byte
